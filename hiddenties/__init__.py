@@ -1,0 +1,1 @@
+"""Hiddenties: equations between unknowns and their growths, sorted ahead of a simulation."""

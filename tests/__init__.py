@@ -1,0 +1,1 @@
+"""Tests of the package hiddenties: `python3 -m unittest discover -s tests -t .`."""

@@ -1,0 +1,110 @@
+"""Patterns and models to test with, the same ones in each run."""
+
+from random import Random
+
+from tests import oracles
+
+ONE, LESS, NIL = (1, 1), (-1, 1), (0, 1)
+S, SS, UNIT, TWO = (NIL, ONE), (NIL, NIL, ONE), (ONE,), ((2, 1),)
+SPRING = (((ONE, NIL, ONE),),)
+ROD = ((SS, (), UNIT), ((NIL, LESS), UNIT, ()), (UNIT, (), ()))
+TWINS = ((S, S), (S, (ONE, ONE)))
+LOOP = ((S, SS), (UNIT, S))
+SWING = ((2, None, 0), (None, 2, 0), (0, 0, None))
+CHAIN, SHORT = ((1, 0), (None, 0)), ((0, 0, None), (1, 0, None), (0, 2, None))
+# Both unknowns raised alike: each equation's numbers sum to nought.
+ALIKE = ((UNIT, (LESS,)), ((NIL, (3, 4)), (NIL, (-3, 4))))
+NOUGHT = (((), ()), ((), ()))
+
+
+def some_pattern(source, many, greatest, gaps):
+    """A pattern with about so many gaps among ten entries."""
+    return tuple(
+        tuple(None if source.randrange(10) < gaps else source.randint(0, greatest) for _ in range(many))
+        for _ in range(many)
+    )
+
+
+def some_patterns(seed, count, sizes=(1, 2, 3, 4), greatest=3):
+    source = Random(seed)
+    return [
+        some_pattern(source, source.choice(sizes), source.randint(0, greatest), source.randint(0, 7))
+        for _ in range(count)
+    ]
+
+
+def with_choices(patterns):
+    return [pattern for pattern in patterns if oracles.all_choices(pattern)]
+
+
+def without_choices(patterns):
+    return [pattern for pattern in patterns if not oracles.all_choices(pattern)]
+
+
+def fraction(source, greatest=4):
+    return oracles.Fraction(source.randint(-greatest, greatest), source.randint(1, greatest))
+
+
+def some_number(source):
+    """A fraction of the document other than 0."""
+    number = fraction(source)
+    while number == 0:
+        number = fraction(source)
+    return (number.numerator, number.denominator)
+
+
+def some_polynomial(source, degree):
+    """A polynomial of this degree, some of its lower numbers 0."""
+    lower = [(0, 1) if source.randrange(2) else some_number(source) for _ in range(degree)]
+    return tuple(lower) + (some_number(source),)
+
+
+def some_model(source, pattern):
+    return tuple(
+        tuple(() if order is None else some_polynomial(source, order) for order in row) for row in pattern
+    )
+
+
+def some_models(seed, count, sizes=(1, 2, 3, 4), greatest=3):
+    source = Random(seed)
+    return [some_model(source, pattern) for pattern in some_patterns(seed + 1, count, sizes, greatest)]
+
+
+def with_row(table, place, row):
+    return table[:place] + (row,) + table[place + 1:]
+
+
+def stirred(source, model, steps):
+    """A model with the same motions: rows plus polynomials times other rows."""
+    many = len(model)
+    for _ in range(steps if many > 1 else 0):
+        place, other = source.sample(range(many), 2)
+        factors = [()] * many
+        factors[place] = UNIT
+        factors[other] = some_polynomial(source, source.randint(0, 2))
+        model = with_row(model, place, oracles.row_product(factors, model))
+    return model
+
+
+def weak_models(seed, count, sizes=(2, 3), steps=3):
+    """Solvable models that are not sound."""
+    source, found = Random(seed), []
+    while len(found) < count:
+        pattern = some_pattern(source, source.choice(sizes), 2, 3)
+        model = stirred(source, some_model(source, pattern), steps)
+        if oracles.determinant(model) and not oracles.is_sound(model):
+            found.append(model)
+    return found
+
+
+def loose_models(seed, count, sizes=(2, 3)):
+    """Models that are not solvable although their patterns may have choices: one row hangs on others."""
+    source, found = Random(seed), []
+    while len(found) < count:
+        many = source.choice(sizes)
+        model = some_model(source, some_pattern(source, many, 2, 3))
+        factors = [some_polynomial(source, source.randint(0, 1)) for _ in range(many)]
+        place = source.randrange(many)
+        factors[place] = ()
+        found.append(with_row(model, place, oracles.row_product(factors, model)))
+    return found

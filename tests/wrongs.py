@@ -1,0 +1,155 @@
+"""Values of every kind that are not what a function asks for."""
+
+
+class Touchy:
+    """An object that can be asked nothing but its class."""
+
+    def __eq__(self, other):
+        raise RuntimeError("compared")
+
+    def __bool__(self):
+        raise RuntimeError("tested")
+
+    def __len__(self):
+        raise RuntimeError("measured")
+
+    def __iter__(self):
+        raise RuntimeError("iterated over")
+
+    def __getitem__(self, at):
+        raise RuntimeError("indexed")
+
+    def __hash__(self):
+        raise RuntimeError("hashed")
+
+    def __lt__(self, other):
+        raise RuntimeError("sorted")
+
+
+def nested(depth, inner, kind=tuple):
+    """A value nested so deep."""
+    value = inner
+    for _ in range(depth):
+        value = kind([value])
+    return value
+
+
+def anything():
+    """Values that are no whole number, no tuple of a wanted form, nothing at all."""
+    return [
+        None, True, False, "", "0", "((0,),)", b"", b"\x00", [], {}, set(), frozenset(), object(), Touchy(), int,
+        len, range(2), iter(()), 10 ** 500, -10 ** 500, -1, {0: 0}, {0}, [0], [[0]], [()], "x" * 50,
+        nested(14, 0), nested(13, ()), nested(14, 0, list), nested(7, nested(7, None, list)),
+        (Touchy(),), ((Touchy(),),), (((Touchy(),),),), ((((Touchy(), 1),),),), (0, Touchy()),
+    ]
+
+
+def no_numbers():
+    """Values that are no whole number from 0 on."""
+    return [value for value in anything() if value is None or type(value) is not int] + [-1, -7, -10 ** 500]
+
+
+def no_indexes(many):
+    """Values that are no index of one of so many elements."""
+    return no_numbers() + [many, many + 1, 10 ** 500, (0,), [0], "0"]
+
+
+def no_fractions():
+    """Values that are no fraction."""
+    return [
+        (2, 4), (0, 2), (0, 0), (1, 0), (1, -1), (-1, -2), (3, 3), (6, 4), (-6, 4), (True, 1), (1, True), (0, True),
+        (False, 1), (1,), (1, 1, 1), [1, 1], ("1", "1"), (1, None), (None, 1), ((1, 1), (1, 1)), 1, 0, "11", b"11",
+        None, True, (), (Touchy(), 1), (1, Touchy()), (1, [1]),
+    ]
+
+
+def no_polynomials():
+    """Values that are no polynomial."""
+    ends = [((0, 1),), ((1, 1), (0, 1)), ((0, 1), (0, 1)), ((1, 2), (3, 1), (0, 1))]
+    inside = [(value,) for value in no_fractions()] + [((1, 1), value, (1, 1)) for value in no_fractions()]
+    return ends + inside + [
+        [], [(1, 1)], None, 0, 1, "", True, (1, 1), {}, Touchy(), ([1, 1],), {(1, 1): 1}, {(1, 1)},
+    ]
+
+
+def no_rows(many):
+    """Values that are no row of so many polynomials."""
+    short, long = ((),) * (many - 1), ((),) * (many + 1)
+    wide = [((),) * (many - 1) + (value,) for value in no_polynomials()]
+    return wide + [short, long, [()] * many, (((1, 1),),) * (many + 1), None, 0, "x" * many]
+
+
+def no_models():
+    """Values that are no model."""
+    found = anything() + [(), ((),), [[()]], ([()],), [((),)], (((), ()),), (((),), ((),)), ((0,),), ((None,),)]
+    found += [(row,) for row in no_rows(1)]
+    found += [(((), ()), row) for row in no_rows(2)] + [(row, ((), ())) for row in no_rows(2)]
+    found += [(((),) * 3,) * 2, (((),) * 2,) * 3, ((((1, 1),),),) * 2, (((),), ((), ()))]
+    return found
+
+
+def no_entries():
+    """Values that may not stand in a pattern."""
+    return [value for value in no_numbers() if value is not None] + ["None", (), (0,), (None,)]
+
+
+def no_patterns():
+    """Values that are no pattern."""
+    found = anything() + [(), ((),), [[0]], ([0],), [(0,)], ((0, 0),), ((0,), (0,)), ((0,), (0, 0)), (0,), (None,)]
+    found += [((value,),) for value in no_entries()]
+    found += [((0, 1), (None, value)) for value in no_entries()]
+    found += [((0, value), (None, 1)) for value in no_entries()]
+    found += [((0, 0), (0, 0, 0)), ((0, 0), (0,)), ((0, 0, 0), (0, 0)), ((0, 0), [0, 0]), ((0, 0), "00")]
+    found += [(((0, 0), 0), (0, 0)), ((0, 0), (0, 0), (0, 0)), ((0, 0), None)]
+    return found
+
+
+def no_choices(pattern, choice):
+    """Values that are no choice of a pattern, by one that is."""
+    found = anything() + [list(choice), choice + (0,), choice[:-1], (choice,), choice + choice, (choice, choice)]
+    for k in range(len(choice)):
+        for value in no_indexes(len(choice)):
+            found.append(choice[:k] + (value,) + choice[k + 1:])
+        for value, order in enumerate(pattern[k]):
+            if value != choice[k] or order is None:
+                found.append(choice[:k] + (value,) + choice[k + 1:])
+    found.append(tuple(unknown - len(choice) for unknown in choice))
+    if 1 in choice:
+        found.append(tuple(True if unknown == 1 else unknown for unknown in choice))
+    return found
+
+
+def no_offsets(pattern, offsets):
+    """Values that are no offsets of a pattern, by the least ones."""
+    grown, settled = offsets
+    found = anything() + [
+        list(offsets), (list(grown), settled), (grown, list(settled)), (grown,), (grown, settled, ()), (settled,),
+        (grown + (0,), settled), (grown, settled + (0,)), (grown[:-1], settled), (grown, settled[:-1]),
+        grown + settled, ((), ()), (None, settled), (grown, None), ((grown, settled),), {0: grown, 1: settled},
+    ]
+    # Exchanged, their span is below 0, and so below the weight of a choice.
+    if sum(settled) > sum(grown):
+        found.append((settled, grown))
+    for k in range(len(grown)):
+        for value in no_numbers():
+            found.append((grown[:k] + (value,) + grown[k + 1:], settled))
+            found.append((grown, settled[:k] + (value,) + settled[k + 1:]))
+        if settled[k] > 0:
+            found.append((grown, settled[:k] + (settled[k] - 1,) + settled[k + 1:]))
+        # Each equation with a mentioned unknown is stopped by some d; with the least offsets this one is tight.
+        if any(order is not None for order in pattern[k]):
+            found.append((grown[:k] + (grown[k] + max(settled) + 1,) + grown[k + 1:], settled))
+    return found
+
+
+def no_courses(many):
+    """Values that are no courses for a model of so many unknowns."""
+    found = anything() + [[()] * many, ((),) * (many + 1), ((),) * (many - 1), (((1, 1),),) * (many + 1), (None,) * many]
+    for value in no_fractions():
+        found.append(((value,),) + (((1, 1),),) * (many - 1))
+        found.append((((1, 1), value),) + (((1, 1), (1, 1)),) * (many - 1))
+        found.append((((1, 1),),) * (many - 1) + ((value,),))
+    if many > 1:
+        found += [(((1, 1),),) + ((),) * (many - 1), ((),) * (many - 1) + (((0, 1),),)]
+        found += [([(1, 1)],) + (((1, 1),),) * (many - 1), ((1, 1),) + ((1, 1),) * (many - 1)]
+    return found
