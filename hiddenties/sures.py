@@ -1,7 +1,5 @@
 """Sure patterns: whether the places alone tell how many free starts there are."""
 
-from math import factorial
-
 from hiddenties.blocks import blocks
 from hiddenties.fracs import ONE, ZERO, reduced
 from hiddenties.heavy import any_heaviest, first_choice
@@ -49,28 +47,31 @@ def next_choice(tight, choice):
     return None
 
 
+def tight_determinant(tight, numbers):
+    """The determinant of the whole numbers at tight spots, 1 where none is told."""
+    many = range(len(tight))
+    return whole_determinant([[numbers.get((i, j), 1) if j in tight[i] else 0 for j in many] for i in many])
+
+
 def weak_numbers(tight, choice, other, start):
     """Numbers at the spots of both choices with which those at tight spots are dependent.
 
-    All but one are so great that neither what stands beside the last one nor the rest is 0;
-    the last one then brings the sum of both to 0.
+    The last one brings what stands beside it and the rest to the sum 0. Neither of both is 0
+    as soon as the number at all the others is great enough, and some small one mostly will do.
     """
-    many = len(tight)
-    great = factorial(many) + 1
-    table = [[1 if unknown in lot else 0 for unknown in range(many)] for lot in tight]
-    for equation in range(many):
-        table[equation][choice[equation]] = great
-        table[equation][other[equation]] = great
-    table[start][choice[start]] = 0
-    rest = whole_determinant(table)
-    table[start][choice[start]] = 1
-    beside = whole_determinant(table) - rest
-    numbers = {}
-    for equation in range(many):
-        numbers[equation, choice[equation]] = (great, 1)
-        numbers[equation, other[equation]] = (great, 1)
-    numbers[start, choice[start]] = reduced(-rest, beside)
-    return numbers
+    spots = list(enumerate(choice)) + list(enumerate(other))
+    last, great = (start, choice[start]), 0
+    rest = beside = 0
+    while rest == 0 or beside == 0:
+        great = great + 1
+        numbers = {spot: great for spot in spots}
+        numbers[last] = 0
+        rest = tight_determinant(tight, numbers)
+        numbers[last] = 1
+        beside = tight_determinant(tight, numbers) - rest
+    told = {spot: (great, 1) for spot in spots}
+    told[last] = reduced(-rest, beside)
+    return told
 
 
 def weak_model(pattern):

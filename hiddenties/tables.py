@@ -49,13 +49,11 @@ def with_units(table):
 
 
 def whole_determinant(table):
-    """The determinant of a square table; that of a table without rows is 1."""
+    """The determinant of a square table with rows."""
     many = len(table)
     rows, _, columns, sign = stairs(table, many)
     if len(columns) < many:
         return 0
-    if many == 0:
-        return 1
     return sign * rows[many - 1][many - 1]
 
 
