@@ -32,3 +32,13 @@ def sum_of_products(pairs):
     products = [(one[0] * other[0], one[1] * other[1]) for one, other in pairs]
     below = common_below(products)
     return reduced(sum(wholes_of(products, below)), below)
+
+
+def negative(fraction):
+    """The fraction times -1."""
+    return (-fraction[0], fraction[1])
+
+
+def difference(one, other):
+    """One fraction less another one."""
+    return sum_of_products([(one, ONE), (negative(other), ONE)])

@@ -1,6 +1,7 @@
 """Polynomials as tuples of fractions, the lowest power first, without a 0 at the end."""
 
 from hiddenties.fracs import ZERO, common_below, reduced, wholes_of
+from hiddenties.tables import common_divisor, without_common
 
 UNIT = ((1, 1),)
 
@@ -44,6 +45,26 @@ def multiplied(one, other):
 def scaled(polynomial, fraction):
     """A polynomial times a fraction."""
     return multiplied(polynomial, trimmed((fraction,)))
+
+
+def quotient(one, other):
+    """The polynomial that makes one polynomial of another one, which is not nought; None."""
+    one_below, other_below = common_below(one), common_below(other)
+    rest, wholes = wholes_of(one, one_below), wholes_of(other, other_below)
+    common = common_divisor(wholes)
+    # If it divides at all, what has no common divisor leaves whole numbers (Gauss).
+    divisor = without_common(wholes)
+    degree = len(divisor) - 1
+    found = [0] * max(0, len(rest) - degree)
+    for k in reversed(range(len(found))):
+        found[k], left = divmod(rest[k + degree], divisor[degree])
+        if left != 0:
+            return None
+        for i, whole in enumerate(divisor):
+            rest[k + i] = rest[k + i] - found[k] * whole
+    if common_divisor(rest) != 0:
+        return None
+    return polynomial_over([whole * other_below for whole in found], one_below * common)
 
 
 def raised(polynomial, times):

@@ -42,6 +42,26 @@ def stairs(table, width):
     return rows, places, columns, sign
 
 
+def full_stairs(table, width):
+    """The rows of a table in stairs, with noughts above the steps, too.
+
+    A tuple of the rows, the columns of the steps, and the number that stands at all steps.
+    """
+    rows = [list(row) for row in table]
+    columns, last = [], 1
+    for column in range(width):
+        step = len(columns)
+        at = row_with(rows, step, column)
+        if at is None:
+            continue
+        rows[step], rows[at] = rows[at], rows[step]
+        head = rows[step]
+        rows = [head if k == step else less_head(row, head, column, last) for k, row in enumerate(rows)]
+        last = head[column]
+        columns.append(column)
+    return rows, columns, last
+
+
 def with_units(table):
     """The table, with the unit table to the right of it."""
     many = len(table)

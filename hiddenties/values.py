@@ -88,6 +88,11 @@ def is_choice_of(pattern, value):
     return all([pattern[k][value[k]] is not None for k in range(many)])
 
 
+def is_place(value, many):
+    """Whether a value is a pair of an index of one of so many unknowns and a growth."""
+    return is_tuple(value, 2) and is_index(value[0], many) and is_natural(value[1])
+
+
 def are_numbers(value, many):
     """Whether a value is a tuple of so many whole numbers from 0 on."""
     return is_tuple(value, many) and all([is_natural(item) for item in value])

@@ -12,6 +12,11 @@ TWINS = ((S, S), (S, (ONE, ONE)))
 LOOP = ((S, SS), (UNIT, S))
 SWING = ((2, None, 0), (None, 2, 0), (0, 0, None))
 CHAIN, SHORT = ((1, 0), (None, 0)), ((0, 0, None), (1, 0, None), (0, 2, None))
+HALF = ((1, 2),)
+BAR = ((SS, (), UNIT), ((), SS, TWO), (UNIT, TWO, ()))
+LOOSE = ((SS, (), ()), ((), SS, ()), ((), (), UNIT))
+TURN = ((S, (LESS,)), (UNIT, S))
+SLACK, EVEN = ((S, ()), ((), S)), ((S, S), ((), UNIT))
 # Both unknowns raised alike: each equation's numbers sum to nought.
 ALIKE = ((UNIT, (LESS,)), ((NIL, (3, 4)), (NIL, (-3, 4))))
 NOUGHT = (((), ()), ((), ()))
@@ -108,3 +113,91 @@ def loose_models(seed, count, sizes=(2, 3)):
         factors[place] = ()
         found.append(with_row(model, place, oracles.row_product(factors, model)))
     return found
+
+
+def solvable(models):
+    return [model for model in models if oracles.determinant(model)]
+
+
+def solvable_models(seed, count, sizes=(1, 2, 3), greatest=2):
+    """Solvable models, sound and weak ones, and those of the document."""
+    found = solvable(some_models(seed, 2 * count, sizes, greatest))[:count] + weak_models(seed + 1, count // 3, steps=2)
+    return found + [SPRING, ROD, TWINS, BAR, LOOSE, TURN, SLACK, EVEN]
+
+
+def unit_table(many):
+    return tuple(tuple(UNIT if i == j else () for j in range(many)) for i in range(many))
+
+
+def some_row(source, many, greatest, gaps=3):
+    """A row with about so many gaps among ten entries."""
+    return tuple(
+        () if source.randrange(10) < gaps else some_polynomial(source, source.randint(0, greatest)) for _ in range(many)
+    )
+
+
+def some_tie(source, model, greatest=1):
+    """A tie of the model, and its paper."""
+    paper = some_row(source, len(model), greatest)
+    return oracles.row_product(paper, model), paper
+
+
+def with_one_changed(source, row):
+    """The row with one number changed."""
+    unknown = source.randrange(len(row))
+    numbers = oracles.numbers_of(row[unknown])
+    numbers += [oracles.Fraction(0)] * (source.randint(1, 2) if source.randrange(4) == 0 or not numbers else 0)
+    at = source.randrange(len(numbers))
+    numbers[at] += oracles.Fraction(*some_number(source))
+    return with_row(row, unknown, oracles.polynomial_of(numbers))
+
+
+def some_places(source, many, count, growths):
+    """Unlike places, not more than there are."""
+    places = [(unknown, growth) for unknown in range(many) for growth in range(growths)]
+    return tuple(source.sample(places, min(count, len(places))))
+
+
+def some_lot(source, many, count, growths):
+    return tuple(sorted(some_places(source, many, count, growths)))
+
+
+def some_fractions(source, count):
+    return tuple(
+        (number.numerator, number.denominator) for number in [fraction(source) for _ in range(count)]
+    )
+
+
+def mixed_motion(source, motions, size):
+    """A sum of multiples of motions, and the numbers they are multiplied by."""
+    factors = [fraction(source) for _ in motions]
+    told = tuple(
+        tuple(
+            pair(sum((factor * oracles.Fraction(*motion[j][k]) for factor, motion in zip(factors, motions)),
+                     oracles.Fraction(0)))
+            for k in range(len(motions))
+        ) for j in range(size)
+    )
+    return told, factors
+
+
+def pair(number):
+    """A fraction of the document of one of Python's."""
+    number = oracles.Fraction(number)
+    return (number.numerator, number.denominator)
+
+
+def wide_model(source, steps=0, order=1):
+    """A solvable model with eight unknowns, and as many free starts as its orders sum to."""
+    many = range(8)
+    model = tuple(
+        tuple(some_polynomial(source, order) if i == j else UNIT if j < i else () for j in many) for i in many
+    )
+    return stirred(source, model, steps)
+
+
+# Pairs of a model and a lot of it that is no state lot: with too few places, too many, or dependent ones.
+NO_STATE_LOTS = (
+    (SPRING, ()), (ROD, ((0, 0),)), (TWINS, ((1, 0),)), (BAR, ((0, 0), (1, 0))), (TURN, ((0, 0), (0, 1), (1, 0))),
+    (BAR, ((0, 0), (0, 1), (2, 0))),
+)

@@ -224,3 +224,151 @@ def free_starts(model):
 def is_sound(model):
     starts = free_starts(model)
     return starts is not None and starts == heaviest(orders(model))[0]
+
+
+def adjoint(table):
+    """The table with which a table makes its determinant times the unit table."""
+    many = range(len(table))
+    rows = []
+    for j in many:
+        row = []
+        for i in many:
+            minor = tuple(tuple(table[a][b] for b in many if b != j) for a in many if a != i)
+            told = numbers_of(determinant(minor)) if minor else [Fraction(1)]
+            row.append(polynomial_of([number * (-1) ** (i + j) for number in told]))
+        rows.append(tuple(row))
+    return tuple(rows)
+
+
+def divided(numbers, bottom):
+    """The numbers of the quotient and of the rest of two polynomials."""
+    rest = cut(numbers)
+    found = [Fraction(0)] * max(0, len(rest) - len(bottom) + 1)
+    while len(rest) >= len(bottom):
+        shift, factor = len(rest) - len(bottom), rest[-1] / bottom[-1]
+        found[shift] = factor
+        rest = cut([number - (factor * bottom[k - shift] if k >= shift else 0) for k, number in enumerate(rest)])
+    return found, rest
+
+
+def paper(model, row):
+    """The row v with v times a solvable model as the row, by the adjoint table; None."""
+    bottom, found = numbers_of(determinant(model)), []
+    for item in row_product(row, adjoint(model)):
+        told, rest = divided(numbers_of(item), bottom)
+        if rest:
+            return None
+        found.append(polynomial_of(told))
+    return tuple(found)
+
+
+def factor(model, other):
+    """The table with which a solvable model makes another one; None."""
+    rows = [paper(model, row) for row in other]
+    return None if None in rows else tuple(rows)
+
+
+def led_on(bottom, told, many):
+    """The growths below `many` of a course that a polynomial leads to nought, by as many as its degree."""
+    course, degree = list(told), len(bottom) - 1
+    while len(course) < many:
+        later = course[len(course) - degree:]
+        course.append(-sum((number * own for number, own in zip(bottom, later)), Fraction(0)) / bottom[-1])
+    return course[:many]
+
+
+def led_at(row, courses, growth):
+    """A growth of the course to which a row leads courses of Fractions."""
+    return sum(
+        (number * course[growth + k]
+         for item, course in zip(row, courses) for k, number in enumerate(numbers_of(item))), Fraction(0),
+    )
+
+
+def further(model, motion, many):
+    """The growths below `many` of the unknowns in a motion, as point 19 leads them on."""
+    bottom = numbers_of(determinant(model))
+    return [led_on(bottom, numbers_of(course), many) for course in motion]
+
+
+def is_motion(model, motion):
+    """Point 19 word for word; the motion is a tuple of as many tuples of fractions as it has to be."""
+    starts = free_starts(model)
+    longest = max(len(item) for row in model for item in row)
+    courses = further(model, motion, starts + longest)
+    return all(led_at(row, courses, growth) == 0 for row in model for growth in range(starts))
+
+
+def spanning_motions(model, many):
+    """Motions, the growths below `many` of the unknowns in each, of which all others are sums of multiples.
+
+    The adjoint table makes a motion of any courses that the determinant leads to nought, and
+    makes each motion so.
+    """
+    bottom, table = numbers_of(determinant(model)), adjoint(model)
+    degree, longest = len(bottom) - 1, max(len(item) for row in table for item in row)
+    heads = [led_on(bottom, [Fraction(int(k == at)) for k in range(degree)], many + longest) for at in range(degree)]
+    return [
+        [[led_at((row[i],), (head,), growth) for growth in range(many)] for row in table]
+        for i in range(len(model)) for head in heads
+    ]
+
+
+class Space:
+    """What all motions of a solvable model let read off at places."""
+
+    def __init__(self, model, many):
+        self.starts = free_starts(model)
+        self.motions = spanning_motions(model, many)
+
+    def vector(self, place):
+        return [motion[place[0]][place[1]] for motion in self.motions]
+
+    def rank(self, places):
+        return rank([self.vector(place) for place in places])
+
+    def taken(self, places):
+        """The indexes of the places that are taken by greed."""
+        found = []
+        for k, place in enumerate(places):
+            if self.rank([places[at] for at in found] + [place]) > len(found):
+                found.append(k)
+        return found
+
+
+def rank(vectors):
+    """How many of the vectors are independent."""
+    rows = []
+    for vector in vectors:
+        vector = [Fraction(number) for number in vector]
+        for head, row in rows:
+            worth = vector[head] / row[head]
+            vector = [own - worth * other for own, other in zip(vector, row)]
+        heads = [k for k, number in enumerate(vector) if number != 0]
+        if heads:
+            rows.append((heads[0], vector))
+    return len(rows)
+
+
+def read_off(row, numbers):
+    """A row read off numbers at places, a dict."""
+    return sum(
+        (Fraction(*number) * numbers.get((unknown, growth), 0)
+         for unknown, item in enumerate(row) for growth, number in enumerate(item)), Fraction(0),
+    )
+
+
+def forced_at(row, forcings, growth):
+    """A growth of the course to which a row leads forcings that are told by finitely many growths."""
+    return sum(
+        (Fraction(*number) * Fraction(*forcing[growth + k])
+         for item, forcing in zip(row, forcings) for k, number in enumerate(item) if growth + k < len(forcing)),
+        Fraction(0),
+    )
+
+
+def places_of(row):
+    """The places at which a row has numbers other than 0, ascending."""
+    return [
+        (unknown, growth) for unknown, item in enumerate(row) for growth, number in enumerate(item) if number[0] != 0
+    ]

@@ -75,6 +75,18 @@ def names_given(tree):
     return found
 
 
+def classes_of():
+    """The classes of the package that are no errors."""
+    trees = [tree_of(path) for path in FILES if path.stem != "errors"]
+    return [node for tree in trees for node in tree.body if isinstance(node, ast.ClassDef)]
+
+
+def own_methods():
+    """The methods of these classes."""
+    found = [node.name for part in classes_of() for node in part.body if isinstance(node, ast.FunctionDef)]
+    return [name for name in found if name != "__init__"]
+
+
 def imports_of(tree):
     return [node for node in ast.walk(tree) if isinstance(node, (ast.Import, ast.ImportFrom))]
 
@@ -187,6 +199,29 @@ class NamesTest(unittest.TestCase):
             self.assertIsNotNone(ast.get_docstring(tree), path)
 
 
+class ClassesTest(unittest.TestCase):
+    def test_classes(self):
+        """Plain classes: a docstring, and methods with other names than those of attributes and of Python's values."""
+        attributes, methods = [], own_methods()
+        for part in classes_of():
+            self.assertEqual((part.bases, part.keywords, part.decorator_list), ([], [], []))
+            self.assertIsNotNone(ast.get_docstring(part))
+            for node in part.body[1:]:
+                self.assertIsInstance(node, ast.FunctionDef)
+                self.assertEqual(node.args.args[0].arg, "self")
+                self.assertTrue(node.name == "__init__" or not node.name.startswith("_"))
+            attributes += [
+                node.attr for node in ast.walk(part)
+                if isinstance(node, ast.Attribute) and isinstance(node.ctx, ast.Store)
+            ]
+        self.assertEqual(len(methods), len(set(methods)))
+        self.assertFalse(set(methods) & set(attributes))
+        for name in methods + attributes:
+            for kind in (str, int, list, tuple, dict, set, bytes):
+                self.assertNotIn(name, dir(kind))
+            self.assertNotIn(name, NOWHERE + tuple(NO_NAMES))
+
+
 class CodeTest(unittest.TestCase):
     def test_functions(self):
         for path in FILES:
@@ -237,7 +272,8 @@ class CodeTest(unittest.TestCase):
                     self.assertTrue(kind or isinstance(holder, ast.Call) and holder.func is node, about)
                 if isinstance(node, ast.Call) and isinstance(node.func, ast.Attribute):
                     base = isinstance(node.func.value, ast.Name) and node.func.value.id == "TieError"
-                    self.assertTrue(base and node.func.attr == "__init__" or node.func.attr in METHODS, about)
+                    known = METHODS + own_methods()
+                    self.assertTrue(base and node.func.attr == "__init__" or node.func.attr in known, about)
 
     def test_what_is_iterated_at_once(self):
         for path in FILES:

@@ -94,36 +94,7 @@ def monic(polynomial):
 
 def is_left_multiple(one, other):
     """Whether one table is a table of polynomials times another one, that is solvable."""
-    bottom = oracles.numbers_of(oracles.determinant(other))
-    for row in oracles.table_product(one, adjoint(other)):
-        for item in row:
-            if remainder(oracles.numbers_of(item), bottom):
-                return False
-    return True
-
-
-def adjoint(table):
-    """The table with which a table makes its determinant times the unit table."""
-    many = range(len(table))
-    rows = []
-    for j in many:
-        row = []
-        for i in many:
-            minor = tuple(tuple(table[a][b] for b in many if b != j) for a in many if a != i)
-            told = oracles.numbers_of(oracles.determinant(minor)) if minor else [oracles.Fraction(1)]
-            row.append(oracles.polynomial_of([number * (-1) ** (i + j) for number in told]))
-        rows.append(tuple(row))
-    return tuple(rows)
-
-
-def remainder(numbers, bottom):
-    numbers = oracles.cut(numbers)
-    while len(numbers) >= len(bottom):
-        factor, shift = numbers[-1] / bottom[-1], len(numbers) - len(bottom)
-        numbers = oracles.cut([
-            number - (factor * bottom[k - shift] if k >= shift else 0) for k, number in enumerate(numbers)
-        ])
-    return numbers
+    return oracles.factor(other, one) is not None
 
 
 class IsMendingTest(Case):

@@ -4,10 +4,12 @@ import unittest
 from fractions import Fraction
 from random import Random
 
-from hiddenties.fracs import common_below, reduced, sum_of_products, wholes_of
-from hiddenties.polys import added, multiplied, number_at, raised, scaled, trimmed, value_at, wholes_through
+from hiddenties.fracs import common_below, difference, negative, reduced, sum_of_products, wholes_of
+from hiddenties.grounds import Ground, grown_rest, rests_of, row_rest
+from hiddenties.plainforms import closed_base, plain_of
+from hiddenties.polys import added, multiplied, number_at, quotient, raised, scaled, trimmed, value_at, wholes_through
 from hiddenties.polytables import leading_table, null_weights, plain_row, row_times, table_times, turned, unit_table
-from hiddenties.tables import cofactors, null_row, whole_determinant
+from hiddenties.tables import cofactors, full_stairs, null_row, whole_determinant
 from tests import makers, oracles
 from tests.helps import Case
 from tests.makers import LESS, NIL, ONE, ROD, S, SS, TWINS, UNIT
@@ -64,8 +66,53 @@ class PolynomialsTest(Case):
                 self.assertEqual(wholes_through(values), wholes + [0] * more)
         self.assertEqual(value_at([3, 0, 2], -5), 53)
 
+    def test_differences(self):
+        self.check_equal(difference((1, 2), (1, 3)), (1, 6))
+        self.check_equal(difference((1, 2), (1, 2)), NIL)
+        self.check_equal(negative((-3, 7)), (3, 7))
+        self.check_equal(negative(NIL), NIL)
+
+
+class QuotientTest(Case):
+    def test_multiples_and_others(self):
+        told, source, found = some_polynomials(91, 80), Random(92), {}
+        for one, other in zip(told, told[1:]):
+            if not other:
+                continue
+            product = multiplied(one, other)
+            self.check_equal(quotient(product, other), one)
+            changed = list(product) + [NIL] * (not product)
+            at = source.randrange(len(changed))
+            changed[at] = makers.pair(Fraction(*changed[at]) + Fraction(1, 3))
+            number, rest = oracles.divided(oracles.numbers_of(trimmed(changed)), oracles.numbers_of(other))
+            self.check_equal(quotient(trimmed(changed), other), None if rest else oracles.polynomial_of(number))
+            found[bool(rest)] = True
+        self.assertEqual(len(found), 2)
+
+    def test_edges(self):
+        self.check_equal(quotient((), S), ())
+        self.check_equal(quotient(UNIT, S), None)
+        self.check_equal(quotient(SS, S), S)
+        self.check_equal(quotient(((2, 3), (4, 9)), ((3, 1), (2, 1))), ((2, 9),))
+        self.check_equal(quotient((ONE, NIL, LESS), (ONE, ONE)), (ONE, LESS))
+        self.check_equal(quotient((ONE, NIL, ONE), (ONE, ONE)), None)
+
 
 class TablesTest(Case):
+    def test_full_stairs(self):
+        """The rows are multiples of a base in stairs, with one and the same number at all steps."""
+        source = Random(93)
+        for k in range(150):
+            table = self.some_table(source, k % 5, 1 + k % 6)
+            rows, columns, last = full_stairs(table, 1 + k % 6)
+            self.assertEqual(len(columns), oracles.rank(table))
+            self.assertEqual(columns, sorted(columns))
+            for step, column in enumerate(columns):
+                self.assertEqual([row[column] for row in rows], [last if at == step else 0 for at in range(len(rows))])
+                self.assertFalse(any(rows[step][:column]))
+            self.assertFalse(any(any(row) for row in rows[len(columns):]))
+            self.assertEqual(oracles.rank(table + rows), len(columns))
+
     def some_table(self, source, rows, columns):
         return [[source.choice((-2, -1, 0, 0, 1, 3)) for _ in range(columns)] for _ in range(rows)]
 
@@ -118,6 +165,43 @@ class PolynomialTablesTest(Case):
     def test_plain_row(self):
         self.check_equal(plain_row((((2, 3),), (), ((4, 9), (0, 1), (-10, 3)))), (((3, 1),), (), ((2, 1), NIL, (-15, 1))))
         self.check_equal(plain_row((((6, 1),), S)), (((6, 1),), S))
+
+
+class PlainFormsTest(Case):
+    def test_closed_base(self):
+        """x' and x' + y, up to growth 1, make y, and with it y'; spread by growths: x, y, x', y'."""
+        told = closed_base([[0, 0, 2, 0], [0, 3, 3, 0]], 2)
+        self.assertEqual(sorted(told), [1, 2, 3])
+        for place, row in told.items():
+            self.assertEqual([abs(number) for number in row], [int(at == place) for at in range(4)])
+        self.assertEqual(closed_base([[0, 0]], 1), {})
+
+    def test_models_that_are_not_solvable(self):
+        for model in makers.loose_models(94, 30) + [makers.LOOP, makers.ALIKE, makers.NOUGHT, (((),),)]:
+            self.assertIsNone(plain_of(model))
+
+
+class GroundsTest(Case):
+    def test_rests(self):
+        """A place less its rest is a tie, and so is what is grown."""
+        source = Random(95)
+        for model in makers.solvable_models(96, 25):
+            ground = Ground(plain_of(model))
+            places = list(makers.some_places(source, len(model), 3, 5))
+            for place, (wholes, below) in zip(places, rests_of(ground, places)):
+                self.check_rest(model, ground, place, wholes, below)
+                wholes, below = grown_rest(ground, (wholes, below))
+                self.check_rest(model, ground, (place[0], place[1] + 1), wholes, below)
+
+    def check_rest(self, model, ground, place, wholes, below):
+        self.assertGreater(below, 0)
+        row = tuple((NIL,) * place[1] + (ONE,) if k == place[0] else () for k in range(len(model)))
+        for at, whole in zip(ground.places, wholes):
+            less = trimmed((NIL,) * at[1] + (reduced(-whole, below),))
+            own = tuple(less if k == at[0] else () for k in range(len(model)))
+            row = tuple(added(item, other) for item, other in zip(row, own))
+        self.assertIsNotNone(oracles.paper(model, row))
+        self.check_equal(tuple(row_rest(ground, row)), (NIL,) * len(ground.places))
 
 
 if __name__ == "__main__":

@@ -1,5 +1,15 @@
 """Values of every kind that are not what a function asks for."""
 
+from hiddenties.errors import InvalidLot, InvalidModel, NotSolvable
+from tests import makers
+
+# Wrong arguments as `check_turns` takes them, for functions of any models, and of lots for two unknowns.
+MODEL_TURNS = [
+    ([], InvalidModel, ([],)), ((), InvalidModel, ((),)), (makers.LOOP, NotSolvable, ()),
+    (makers.ALIKE, NotSolvable, ()),
+]
+LOT_TURNS = [(None, InvalidLot, (None,)), (((0, 1), (0, 0)), InvalidLot, (1,)), (((2, 0),), InvalidLot, (0,))]
+
 
 class Touchy:
     """An object that can be asked nothing but its class."""
@@ -152,4 +162,102 @@ def no_courses(many):
     if many > 1:
         found += [(((1, 1),),) + ((),) * (many - 1), ((),) * (many - 1) + (((0, 1),),)]
         found += [([(1, 1)],) + (((1, 1),),) * (many - 1), ((1, 1),) + ((1, 1),) * (many - 1)]
+    return found
+
+
+def no_motions(motion):
+    """Values that are no motion of a model, by one that is; they are so by their form alone."""
+    found = anything() + [list(motion), motion + (motion[0],), motion[:-1], (motion,), (None,) * len(motion)]
+    found.append(tuple(list(course) for course in motion))
+    found.append(tuple(course + ((0, 1),) for course in motion))
+    for k, course in enumerate(motion):
+        for other in (list(course), course + ((0, 1),), course[1:], course[:-1], (course,), None, 0):
+            if other != course:
+                found.append(motion[:k] + (other,) + motion[k + 1:])
+        for at in range(len(course)):
+            for value in no_fractions():
+                found.append(motion[:k] + (course[:at] + (value,) + course[at + 1:],) + motion[k + 1:])
+    return [value for value in found if type(value) is not tuple or repr(value) != repr(motion)]
+
+
+def no_numbers_to(least, most):
+    """Values that are no whole number from one on up to another one."""
+    return no_numbers() + [least - 1, most + 1, 10 ** 300, str(least), (least,), [least], float]
+
+
+def no_orders(many):
+    """Values that are no orders for so many unknowns, each with the index that is told."""
+    found = [(value, None) for value in no_tuples()]
+    found += [((0,) * (many - 1), None), ((0,) * (many + 1), None), ([0] * many, None), ((), None)]
+    for k in range(many):
+        for value in no_numbers() + [41, 10 ** 300, "1", (1,), [1]]:
+            if value is not None:
+                found.append(((1,) * k + (value,) + (None,) * (many - 1 - k), k))
+                found.append(((None,) * k + (value,) * (many - k), k))
+    return found
+
+
+def no_tuples():
+    return [value for value in anything() if type(value) is not tuple] + [0, 1]
+
+
+def no_places(many):
+    """Values that are no place of a model of so many unknowns."""
+    found = anything() + [(), (0,), (0, 0, 0), [0, 0], "00", ((0, 0),), ([0], 0), (0, [0]), ((0, 0), 0), {0: 0}]
+    found += [(value, 0) for value in no_indexes(many)]
+    found += [(0, value) for value in no_numbers()]
+    return found + [(many, 0), (-1, 0), (0, -1), (True, 0), (0, True), (False, 0), (0, None)]
+
+
+def no_lots(many):
+    """Values that are no lot of a model of so many unknowns, each with the index that is told."""
+    found = [(value, None) for value in no_tuples() + [[(0, 0)], {(0, 0): 1}, {(0, 0)}]]
+    for value in no_places(many):
+        found += [((value,), 0), (((0, 0), value), 1), (((0, 1), (many - 1, 2), value, (0, 0)), 2), ((value, None), 0)]
+    last = many - 1
+    found += [
+        (((0, 0), (0, 0)), 1), (((0, 1), (0, 0)), 1), (((0, 0), (last, 3), (last, 3)), 2),
+        (((0, 0), (0, 2), (0, 1), (0, 0)), 2), (((0, 0), (0, 5), (last, 6), (0, 0), None), 3),
+    ]
+    if many > 1:
+        found += [(((1, 0), (0, 0)), 1), (((0, 7), (1, 0), (0, 8)), 2), (((1, 0), (0, 40)), 1)]
+    return found
+
+
+def no_place_tuples(many):
+    """Values that are no tuple of unlike places, each with the index that is told."""
+    found = [(value, None) for value in no_tuples() + [[(0, 0)], {(0, 0): 1}, {(0, 0)}]]
+    for value in no_places(many):
+        found += [((value,), 0), (((0, 1), value), 1), (((many - 1, 2), (0, 1), value, (0, 1)), 2), ((value, None), 0)]
+    last = many - 1
+    return found + [
+        (((0, 0), (0, 0)), 1), (((0, 1), (last, 5), (0, 1)), 2), (((last, 3), (0, 2), (0, 1), (0, 2), None), 3),
+    ]
+
+
+def no_number_tuples(many):
+    """Values that are no fractions for a lot of so many places, each with the index that is told."""
+    found = [(value, None) for value in no_tuples() + [[(1, 1)] * many]]
+    found += [(((1, 1),) * (many + 1), None)]
+    if many > 0:
+        found += [((), None), (((1, 1),) * (many - 1), None), ((None,) * (many + 1), None)]
+    for k in range(many):
+        for value in no_fractions():
+            found.append((((1, 2),) * k + (value,) + ((0, 1),) * (many - 1 - k), k))
+            found.append((((1, 2),) * k + (value,) * (many - k), k))
+    return found
+
+
+def no_forcings(many):
+    """Values that are no forcings for so many unknowns, each with the index that is told."""
+    found = [(value, None) for value in no_tuples() + [[], [()] * many]]
+    found += [(((),) * (many + 1), None), ((None,) * (many + 1), None)]
+    if many > 1:
+        found += [(((),) * (many - 1), None), ((((1, 1),),), None)]
+    for k in range(many):
+        for value in [None, 0, "", [], [(1, 1)], {}, Touchy(), (1, 1), "11"] + [(item,) for item in no_fractions()]:
+            found.append(((((1, 1),),) * k + (value,) + ((),) * (many - 1 - k), k))
+            found.append((((),) * k + (value,) * (many - k), k))
+        for value in no_fractions():
+            found.append((((),) * k + (((1, 1), (2, 1), value),) + ((),) * (many - 1 - k), k))
     return found
