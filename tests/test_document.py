@@ -52,6 +52,53 @@ MENDED = """
 [True, True, False, True, 1]
 """
 
+MOTIONS = """
+>>> from hiddenties.alikes import are_alike, change_between, factor_between, is_within, parting_motion
+>>> from hiddenties.motions import all_motions, free_places, grown, growth_at, is_motion
+>>> from hiddenties.ties import breaking_motion, is_tie, led_growth, ties_up_to, tie_paper
+>>> [free_places(spring), all_motions(spring), growth_at(spring, ((one, nil),), 0, 2), growth_at(spring, ((one, nil),), 0, 7), grown(spring, ((one, nil),))]
+[((0, 0), (0, 1)), ((((1, 1), (0, 1)),), (((0, 1), (1, 1)),)), (-1, 1), (0, 1), (((0, 1), (-1, 1)),)]
+>>> [free_places(twins), all_motions(twins), is_motion(twins, ((one,), (nil,))), is_motion(twins, ((one,), (one,))), all_motions(rod), is_motion(rod, ((), (), ())), free_places(rod)]
+[((0, 0),), ((((1, 1),), ((0, 1),)),), True, False, (), True, ()]
+>>> [is_tie(twins, (s, ())), tie_paper(twins, (s, ())), tie_paper(twins, (unit, ())), is_tie(twins, (unit, ())), tie_paper(rod, ((), (), unit)), breaking_motion(twins, (s, ()))]
+[True, (((1, 1), (1, 1)), ((0, 1), (-1, 1))), None, False, (((1, 1),), (), ((0, 1), (0, 1), (-1, 1))), None]
+>>> [led_growth(spring, ((one, one),), ((one, nil),), 1), led_growth(twins, (unit, ()), ((one,), (nil,)), 0), ties_up_to(twins, (0, 0)), ties_up_to(twins, (1, None)), ties_up_to(spring, (2,))]
+[(-1, 1), (1, 1), (((), ((1, 1),)),), ((((0, 1), (1, 1)), ()),), ((((1, 1), (0, 1), (1, 1)),),)]
+>>> slack, plain = ((s, ()), ((), s)), ((s, s), ((), unit))
+>>> [are_alike(twins, plain), change_between(twins, plain), are_alike(twins, slack), change_between(twins, slack), is_within(twins, slack), is_within(slack, twins), factor_between(twins, slack)]
+[True, ((((1, 1),), ()), (((-1, 1),), ((1, 1),))), False, None, True, False, ((((1, 1), (1, 1)), ((0, 1), (-1, 1))), (((0, 1), (-1, 1)), ((0, 1), (1, 1))))]
+>>> [parting_motion(twins, plain), parting_motion(twins, slack)[0], factor_between(slack, twins)]
+[None, 1, None]
+"""
+
+STATES = """
+>>> from hiddenties.models import free_starts, is_sound
+>>> from hiddenties.plains import is_plain, plain_lot, plain_model
+>>> from hiddenties.starts import broken_tie, course_with, motion_with, start_word
+>>> from hiddenties.states import first_state_lot, is_free, is_lot, is_state_lot, lot_rank, settles, tie_on, ties_on
+>>> from hiddenties.telling import expressed, growth_table, may_leave
+>>> two, half = ((2, 1),), ((1, 2),)
+>>> bar, loose = ((ss, (), unit), ((), ss, two), (unit, two, ())), ((ss, (), ()), ((), ss, ()), ((), (), unit))
+>>> turn, sway = ((s, (less,)), (unit, s)), ((0, 0), (0, 1))
+>>> [free_starts(bar), is_sound(bar), is_free(spring, ((0, 0), (0, 2))), tie_on(spring, ((0, 0), (0, 2))), is_state_lot(turn, sway), settles(bar, ((0, 0), (0, 1), (2, 0))), lot_rank(bar, ((0, 0), (1, 0), (2, 0)))]
+[2, True, False, (((1, 1), (0, 1), (1, 1)),), True, True, 1]
+>>> [is_lot(loop, sway), is_lot(loop, ((0, 1), (0, 0))), is_state_lot(twins, ((1, 0),)), is_state_lot(twins, ((0, 0),)), is_state_lot(rod, ()), ties_on(bar, ((0, 0), (1, 0), (2, 0)))]
+[True, False, False, True, True, ((((1, 2),), ((1, 1),), ()), ((), (), ((1, 1),)))]
+>>> [first_state_lot(turn, ((1, 3), (0, 0), (0, 1))), first_state_lot(bar, ((2, 0), (1, 0), (0, 0))), may_leave(turn, ((0, 0), (1, 0)), (0, 1)), growth_table(turn, sway), growth_table(rod, ())]
+[((0, 1), (1, 3)), None, ((1, 0),), (((0, 1), (1, 1)), ((-1, 1), (0, 1))), ()]
+>>> [expressed(bar, sway, 1, 0), expressed(bar, sway, 2, 0), expressed(rod, (), 2, 0)]
+[(((-1, 2), (0, 1)), ((), (), ((1, 2),))), (((0, 1), (0, 1)), (((1, 5),), ((2, 5),), ((0, 1), (0, 1), (-1, 5)))), ((), (((1, 1),), (), ((0, 1), (0, 1), (-1, 1))))]
+>>> [plain_model(bar) == ((ss, (), ()), (half, unit, ()), ((), (), unit)), plain_lot(bar), is_plain(bar), is_plain(turn), is_plain(loop), plain_model(twins), plain_model(rod) == plain_model(plain_model(rod))]
+[True, ((0, 0), (0, 1)), False, True, False, ((((0, 1), (1, 1)), ()), ((), ((1, 1),))), True]
+>>> near = ((0, 0), (1, 0))
+>>> [start_word(bar, near, ((2, 1), one), ()), start_word(bar, near, ((2, 1), one), ((), (), ((4, 1),))), broken_tie(bar, near, ((2, 1), one), ()), start_word(rod, (), (), ()), motion_with(turn, near, (one, (2, 1)))]
+['none', 'many', (((1, 2),), ((1, 1),), ()), 'one', (((1, 1), (2, 1)), ((2, 1), (-1, 1)))]
+>>> [course_with(turn, near, (one, (2, 1)), (((3, 1),), ()), 4), course_with(bar, near, ((2, 1), one), (), 4)]
+[(((1, 1), (5, 1), (-1, 1), (-5, 1)), ((2, 1), (-1, 1), (-5, 1), (1, 1))), None]
+>>> growth_table(bar, near)
+raises NotAState()
+"""
+
 
 def parts_of(text):
     """The statements, each with what the document tells of it, '' for nothing."""
@@ -79,12 +126,12 @@ class DocumentTest(unittest.TestCase):
 
     def test_examples(self):
         names, told_parts = {}, 0
-        for text in (MODELS, PATTERNS, MENDED):
+        for text in (MODELS, PATTERNS, MENDED, MOTIONS, STATES):
             for code, told in parts_of(text):
                 with self.subTest(code=code):
                     self.check_part(code, told, names)
                 told_parts += told != ""
-        self.assertEqual(told_parts, 14)
+        self.assertEqual(told_parts, 28)
 
 
 if __name__ == "__main__":
