@@ -86,7 +86,7 @@ def row_rest(ground, row):
             numbers.append(number)
     rests = rests_of(ground, places)
     return [
-        sum_of_products([(number, (wholes[k], below)) for number, (wholes, below) in zip(numbers, rests)])
+        sum_of_products([(factor, (wholes[k], below)) for factor, (wholes, below) in zip(numbers, rests)])
         for k in range(len(ground.places))
     ]
 
