@@ -1,11 +1,13 @@
 """The errors for arguments beside a solvable model."""
 
 from hiddenties.errors import InvalidForcings, InvalidLot, InvalidMotion, InvalidNumber, InvalidNumbers
-from hiddenties.errors import InvalidOrders, InvalidPlace, InvalidPlaces, InvalidRow, NotSolvable, UnlikeSizes
+from hiddenties.errors import InvalidOrders, InvalidPlace, InvalidPlaces, InvalidRow, InvalidUnknowns, NotSolvable
+from hiddenties.errors import UnlikeSizes
 from hiddenties.courses import is_motion_of
 from hiddenties.grounds import Ground
 from hiddenties.plainforms import plain_of
-from hiddenties.values import check_model, is_course, is_fraction, is_natural, is_place, is_row, is_tuple
+from hiddenties.values import check_model, first_wrong_index, is_course, is_fraction, is_natural, is_place, is_row
+from hiddenties.values import is_tuple
 
 MOST = 40
 
@@ -19,11 +21,23 @@ def ground_of(model):
     return Ground(plain)
 
 
+def check_sizes(model, other):
+    if len(model) != len(other):
+        raise UnlikeSizes()
+
+
 def grounds_of(model, other):
     """What tells the motions of two models with as many unknowns."""
     ground, beside = ground_of(model), ground_of(other)
-    if len(model) != len(other):
-        raise UnlikeSizes()
+    check_sizes(model, other)
+    return ground, beside
+
+
+def grounds_with(model, other, lot):
+    """What tells the motions of two models with as many unknowns, beside a lot of the first one."""
+    ground, beside = ground_of(model), ground_of(other)
+    check_lot(lot, len(model))
+    check_sizes(model, other)
     return ground, beside
 
 
@@ -61,6 +75,14 @@ def first_wrong_of_lot(value, many):
         if not is_place(place, many) or index > 0 and value[index - 1] >= place:
             return index
     return None
+
+
+def check_unknowns(unknowns, many):
+    if not isinstance(unknowns, tuple):
+        raise InvalidUnknowns(None)
+    index = first_wrong_index(unknowns, many)
+    if index is not None:
+        raise InvalidUnknowns(index)
 
 
 def check_lot(lot, many):

@@ -93,6 +93,19 @@ def is_place(value, many):
     return is_tuple(value, 2) and is_index(value[0], many) and is_natural(value[1])
 
 
+def is_index_tuple(value, many):
+    """Whether a value is an ascending tuple of indexes of so many elements."""
+    return isinstance(value, tuple) and first_wrong_index(value, many) is None
+
+
+def first_wrong_index(value, many):
+    """Where in a tuple stands the first element that is no index of so many, or not above the one before; None."""
+    for index, item in enumerate(value):
+        if not is_index(item, many) or index > 0 and value[index - 1] >= item:
+            return index
+    return None
+
+
 def are_numbers(value, many):
     """Whether a value is a tuple of so many whole numbers from 0 on."""
     return is_tuple(value, many) and all([is_natural(item) for item in value])

@@ -201,3 +201,13 @@ NO_STATE_LOTS = (
     (SPRING, ()), (ROD, ((0, 0),)), (TWINS, ((1, 0),)), (BAR, ((0, 0), (1, 0))), (TURN, ((0, 0), (0, 1), (1, 0))),
     (BAR, ((0, 0), (0, 1), (2, 0))),
 )
+
+
+def sound_models(seed, count, sizes=(1, 2, 3), greatest=2):
+    """Sound models, some of them mended, and those of the document."""
+    found = [model for model in solvable(some_models(seed, 6 * count, sizes, greatest)) if oracles.is_sound(model)]
+    return found[:count] + [SPRING, ROD, BAR, LOOSE, TURN, SLACK]
+
+
+# Models that are solvable, but not sound.
+WEAK = (TWINS, ((UNIT, S), (S, (ONE, NIL, ONE))))

@@ -261,3 +261,31 @@ def no_forcings(many):
         for value in no_fractions():
             found.append((((),) * k + (((1, 1), (2, 1), value),) + ((),) * (many - 1 - k), k))
     return found
+
+
+def no_unknown_tuples(many):
+    """Values that are no ascending tuple of indexes of so many unknowns, each with the index that is told."""
+    found = [(value, None) for value in no_tuples() + [[0], {0: 0}, {0}]]
+    last = many - 1
+    for value in no_indexes(many):
+        found += [((value,), 0), ((value, None), 0)]
+        if many > 1:
+            found += [((0, value), 1), ((0, last, value, 0), 2)]
+    found += [((0, 0), 1), ((last, last), 1), ((0, 0, None), 1)]
+    return found + ([((last, 0), 1), ((0, last, 0), 2), ((0, last, last), 2)] if many > 1 else [])
+
+
+def no_pieces():
+    """Values that are no piece."""
+    rows = (((1, 1),), ())
+    found = anything() + [
+        (), (1,), (1, (rows,), ()), [1, (rows,)], (1, [rows]), (1, None), (1, rows), ((rows,), 1), (1, ((),)),
+        (1, ((rows[0],),)), (1, (rows, rows + ((),))), (1, (rows + ((),), rows)), (1, (rows, ())), (1, (rows, None)),
+        (1, ((),), ()), (2, (rows,)), (2, (rows + ((),),)), (1, (list(rows),)), (1, (rows, list(rows))), {1: rows},
+        (1, ("ab",)), (1, (rows, "ab")), (1, (0,)), (1, (Touchy(),)), (1, (rows, Touchy())), (Touchy(), (rows,)),
+    ]
+    for value in no_numbers() + [0, "1", (1,)]:
+        found += [(value, ()), (value, (rows,))]
+    for value in no_polynomials():
+        found += [(1, ((value, ()),)), (1, (rows, ((), value))), (1, (rows + ((),), ((), (), value)))]
+    return found
