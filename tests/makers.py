@@ -211,3 +211,33 @@ def sound_models(seed, count, sizes=(1, 2, 3), greatest=2):
 
 # Models that are solvable, but not sound.
 WEAK = (TWINS, ((UNIT, S), (S, (ONE, NIL, ONE))))
+
+
+def times_row(source, model):
+    """The model with one row times a polynomial: its motions are motions of that."""
+    place = source.randrange(len(model))
+    factor = some_polynomial(source, 1)
+    factors = tuple(factor if k == place else () for k in range(len(model)))
+    return with_row(model, place, oracles.row_product(factors, model))
+
+
+def changed(source, model):
+    """A solvable model that differs in one number."""
+    while True:
+        place = source.randrange(len(model))
+        other = with_row(model, place, with_one_changed(source, model[place]))
+        if oracles.determinant(other):
+            return other
+
+
+def some_pairs(seed, models):
+    """Pairs of models of one size: alike ones, such as hold the motions of the other one, and any."""
+    source, found = Random(seed), []
+    for model in models:
+        found.append((model, stirred(source, model, 2)))
+        wider = times_row(source, model)
+        found += [(model, wider), (wider, model), (model, changed(source, model))]
+    for many in (1, 2, 3):
+        some = [model for model in models if len(model) == many]
+        found += [(source.choice(some), source.choice(some)) for _ in range(15)]
+    return found + [(BAR, LOOSE), (LOOSE, BAR), (TURN, SLACK), (SLACK, TURN), (TWINS, SLACK), (ROD, BAR)]

@@ -1,4 +1,4 @@
-"""The examples of the document, word for word, as far as their modules are written."""
+"""The examples of the document, word for word."""
 
 import unittest
 
@@ -99,6 +99,56 @@ STATES = """
 raises NotAState()
 """
 
+STAGES = """
+>>> from hiddenties.stages import first_stage, lot_of_lefts, may_be_left, solved_unknowns, stage_equations, stage_lot, stage_places, stage_table
+>>> [first_stage(bar), stage_equations(bar, 1), stage_places(bar, 1), stage_table(bar, 1), stage_table(bar, 0)]
+[2, ((2, 1),), ((0, 1), (1, 1)), (((1, 1), (2, 1)),), (((1, 1), (0, 1), (1, 1)), ((0, 1), (1, 1), (2, 1)), ((1, 1), (2, 1), (0, 1)))]
+>>> [solved_unknowns(bar, 1), stage_lot(bar), may_be_left(bar, 1, (0,)), may_be_left(bar, 1, ()), lot_of_lefts(bar, ((0,), (1,))), stage_lot(rod), stage_lot(loose)]
+[(0,), ((1, 0), (1, 1)), True, False, ((0, 0), (1, 1)), (), ((0, 0), (0, 1), (1, 0), (1, 1))]
+>>> stage_lot(twins)
+raises NotSound()
+"""
+
+MODES = """
+>>> from hiddenties.modes import carries_driven, carries_over, goes_on, gone_on, kept_places, lost_tie
+>>> both = ((0, 0), (0, 1), (1, 0), (1, 1))
+>>> [carries_over(bar, loose, both), carries_over(loose, bar, both), lost_tie(loose, bar, both), lost_tie(bar, loose, both), kept_places(loose, bar, both)]
+[True, False, (((1, 2),), ((1, 1),), ()), None, ((0, 0), (0, 1))]
+>>> [carries_over(bar, loose, ((2, 0),)), carries_driven(bar, loose, ((2, 0),)), carries_driven(loose, bar, sway)]
+[True, False, True]
+>>> flight = (((2, 1), one, nil, nil), (less, nil, nil, nil), (nil, nil, nil, nil))
+>>> [goes_on(loose, flight, bar, both), goes_on(loose, flight, bar, ((0, 0), (1, 0))), goes_on(loose, flight, bar, sway), gone_on(loose, flight, bar, sway)]
+['none', 'many', 'one', (((2, 1), (1, 1)), ((-1, 1), (-1, 2)), ((0, 1), (0, 1)))]
+"""
+
+PIECES = """
+>>> from hiddenties.pieces import apart, is_balanced, is_floating, joined
+>>> coil, ground = (2, ((unit, (), (less,), s), ((), unit, (), unit))), (1, ((unit, ()),))
+>>> wire = (2, ((unit, (), (less,), ()), ((), unit, (), unit)))
+>>> [is_balanced(coil), is_balanced(ground), is_floating(coil), is_floating(ground), apart((coil, ground)), is_balanced((2, ()))]
+[True, True, True, False, (((0, 0),), ((0, 1),), ((1, 0),)), False]
+>>> [joined((ground,), (((0, 0),),)), is_solvable(joined((wire, ground), (((0, 0), (1, 0)), ((0, 1),)))), is_solvable(joined((wire,), (((0, 0),), ((0, 1),)))), free_starts(joined((coil, ground), (((0, 0), (0, 1), (1, 0)),)))]
+[((((1, 1),), ()), ((), ((1, 1),))), True, False, 1]
+"""
+
+CERTIFICATES = """
+>>> from hiddenties.certificates import certify_alike, certify_solvable, certify_sound, certify_weight
+>>> from hiddenties.checker import accepts
+>>> from hiddenties.consoles import Console
+>>> from hiddenties.workshops import Workshop
+>>> shop = Workshop()
+>>> console = Console(shop)
+>>> [console.say("put oak: 0/1,1/1 0/1,1/1; 0/1,1/1 1/1,1/1"), shop.named("oak") == twins, console.say("determinant oak"), console.say("starts oak"), console.say("weight oak"), console.say("names")]
+['done', True, '0/1,1/1', '1', '2', 'oak']
+>>> shop.wish(("free", "oak", 1))
+>>> console.say("put oak: 1/1 -; - 1/1")
+raises Broken(index=0)
+>>> [console.say("model oak"), certify_weight(((1, None), (0, None)))[0][0], certify_sound(twins)[0][0], certify_alike(twins, plain)[0][0]]
+['0/1,1/1 0/1,1/1; 0/1,1/1 1/1,1/1', 'no choice', 'weak', 'alike']
+>>> [accepts(("loose", loop), (unit, (nil, less))), accepts(("loose", loop), ((), ())), accepts(("weight", ((1, 1), (1, 1)), 2), ((0, 1), ((0, 0), (1, 1)))), accepts(("tie", twins, (s, ())), (unit, ()))]
+[True, False, True, False]
+"""
+
 
 def parts_of(text):
     """The statements, each with what the document tells of it, '' for nothing."""
@@ -117,21 +167,21 @@ class DocumentTest(unittest.TestCase):
         if told == "":
             exec(code, names)
         elif told.startswith("raises "):
-            wanted = told[len("raises "):].split("(")[0]
             with self.assertRaises(ValueError) as caught:
                 eval(code, names)
-            self.assertEqual(caught.exception.__class__.__name__, wanted)
+            kept = ", ".join(f"{name}={value!r}" for name, value in vars(caught.exception).items())
+            self.assertEqual(f"{caught.exception.__class__.__name__}({kept})", told[len("raises "):])
         else:
             self.assertEqual(repr(eval(code, names)), told)
 
     def test_examples(self):
         names, told_parts = {}, 0
-        for text in (MODELS, PATTERNS, MENDED, MOTIONS, STATES):
+        for text in (MODELS, PATTERNS, MENDED, MOTIONS, STATES, STAGES, MODES, PIECES, CERTIFICATES):
             for code, told in parts_of(text):
                 with self.subTest(code=code):
                     self.check_part(code, told, names)
                 told_parts += told != ""
-        self.assertEqual(told_parts, 28)
+        self.assertEqual(told_parts, 40)
 
 
 if __name__ == "__main__":

@@ -24,11 +24,12 @@ LAZY = ("zip", "enumerate", "reversed", "range", "items", "keys", "values")
 TAKERS = ("list", "tuple", "dict", "sorted", "sum", "any", "all", "enumerate", "zip", "min", "max")
 STATEMENTS = (
     ast.FunctionDef, ast.ClassDef, ast.Return, ast.Assign, ast.For, ast.While, ast.If, ast.Raise, ast.Expr, ast.Pass,
-    ast.Break, ast.Continue, ast.ImportFrom,
+    ast.Break, ast.Continue, ast.ImportFrom, ast.With, ast.Try,
 )
+DUNDERS = ("__init__", "__len__", "__bool__", "__contains__", "__enter__", "__exit__")
 # What this package does without, though the rules would let some of it stand under conditions.
 SHUNNED = (
-    ast.GeneratorExp, ast.Lambda, ast.JoinedStr, ast.NamedExpr, ast.Starred, ast.SetComp, ast.Set, ast.Yield,
+    ast.GeneratorExp, ast.Lambda, ast.FormattedValue, ast.NamedExpr, ast.Starred, ast.SetComp, ast.Set, ast.Yield,
     ast.YieldFrom, ast.Await, ast.Div, ast.MatMult, ast.Pow, ast.Mod, ast.arg,
 )
 NOWHERE = ("register", "mro", "elements", "open", "input", "law", "version_info", "with_traceback", "add_note")
@@ -84,7 +85,12 @@ def classes_of():
 def own_methods():
     """The methods of these classes."""
     found = [node.name for part in classes_of() for node in part.body if isinstance(node, ast.FunctionDef)]
-    return [name for name in found if name != "__init__"]
+    return [name for name in found if name not in DUNDERS]
+
+
+def is_property(node):
+    """Whether a function is one of a class that is read like an attribute."""
+    return [getattr(part, "id", None) for part in node.decorator_list] == ["property"]
 
 
 def imports_of(tree):
@@ -179,7 +185,7 @@ class NamesTest(unittest.TestCase):
     def test_names(self):
         for path in FILES:
             for name in names_given(tree_of(path)):
-                if name == "__init__" or name == "_":
+                if name in DUNDERS or name == "_":
                     continue
                 self.assertRegex(name, r"^_?[A-Za-z][A-Za-z0-9_]*$")
                 self.assertNotIn(name, dir(builtins), path)
@@ -191,12 +197,21 @@ class NamesTest(unittest.TestCase):
             for node in tree.body[1:]:
                 self.assertIsInstance(node, (ast.ImportFrom, ast.FunctionDef, ast.ClassDef, ast.Assign), path)
                 if isinstance(node, ast.Assign):
-                    ast.literal_eval(node.value)
+                    self.check_table(node.value, bound)
                     bound.extend(target.id for target in node.targets)
                 elif not isinstance(node, ast.ImportFrom):
                     bound.append(node.name)
             self.assertEqual(len(bound), len(set(bound)), path)
             self.assertIsNotNone(ast.get_docstring(tree), path)
+
+    def check_table(self, value, bound):
+        """Plain values, and functions that are defined above, and no list or dict within another value."""
+        for node, holder in linked(value):
+            self.assertNotIsInstance(node, (ast.List, ast.Dict, ast.Set))
+            if isinstance(node, ast.Name):
+                self.assertIn(node.id, bound)
+            else:
+                self.assertIsInstance(node, (ast.Constant, ast.Tuple, ast.Load, ast.UnaryOp, ast.USub))
 
 
 class ClassesTest(unittest.TestCase):
@@ -209,7 +224,7 @@ class ClassesTest(unittest.TestCase):
             for node in part.body[1:]:
                 self.assertIsInstance(node, ast.FunctionDef)
                 self.assertEqual(node.args.args[0].arg, "self")
-                self.assertTrue(node.name == "__init__" or not node.name.startswith("_"))
+                self.assertTrue(node.name in DUNDERS or not node.name.startswith("__"))
             attributes += [
                 node.attr for node in ast.walk(part)
                 if isinstance(node, ast.Attribute) and isinstance(node.ctx, ast.Store)
@@ -221,6 +236,31 @@ class ClassesTest(unittest.TestCase):
                 self.assertNotIn(name, dir(kind))
             self.assertNotIn(name, NOWHERE + tuple(NO_NAMES))
 
+    def test_double_underscore_methods_and_properties(self):
+        """They change nothing, are short, and call nothing that they hold."""
+        for part in classes_of():
+            for node in part.body[1:]:
+                if is_property(node) or node.name in ("__len__", "__bool__", "__contains__"):
+                    statements = [row for row in node.body if not isinstance(row, ast.Expr)]
+                    self.assertEqual([type(row) for row in statements], [ast.Return], node.name)
+                    calls = [row.func for row in ast.walk(node) if isinstance(row, ast.Call)]
+                    self.assertTrue(all(isinstance(call, ast.Name) for call in calls), node.name)
+
+    def test_exits(self):
+        """The rows of `__exit__` assign attributes and ask whether there was an error, and do nothing else."""
+        for part in classes_of():
+            for node in part.body[1:]:
+                if node.name == "__exit__":
+                    self.assertEqual([told.arg for told in node.args.args], ["self", "kind", "value", "trace"])
+                    for row in ast.walk(node):
+                        self.assertNotIsInstance(row, (ast.Call, ast.BinOp, ast.Subscript, ast.BoolOp, ast.Return))
+                        if isinstance(row, ast.If):
+                            self.assertEqual(ast.unparse(row.test), "kind is not None")
+                        if isinstance(row, ast.Assign):
+                            self.assertIsInstance(row.value, ast.Attribute)
+                    read = [row.id for row in ast.walk(node) if isinstance(row, ast.Name)]
+                    self.assertFalse({"value", "trace"} & set(read))
+
 
 class CodeTest(unittest.TestCase):
     def test_functions(self):
@@ -228,7 +268,7 @@ class CodeTest(unittest.TestCase):
             for node in ast.walk(tree_of(path)):
                 if isinstance(node, ast.FunctionDef):
                     self.assertLessEqual(node.end_lineno - node.lineno + 1, 40, (path, node.name))
-                    self.assertEqual(node.decorator_list, [])
+                    self.assertTrue(node.decorator_list == [] or is_property(node))
                     told = node.args
                     self.assertFalse(told.defaults or told.kwonlyargs or told.vararg or told.kwarg or told.posonlyargs)
                     inner = [part for part in ast.walk(node) if isinstance(part, ast.FunctionDef)]
@@ -248,13 +288,21 @@ class CodeTest(unittest.TestCase):
                 if isinstance(node, SHUNNED):
                     plain = isinstance(node, ast.arg) and node.annotation is None
                     key = isinstance(node, ast.Lambda) and isinstance(holder, ast.keyword) and holder.arg == "key"
-                    self.assertTrue(plain or key, about)
+                    brace = isinstance(node, ast.FormattedValue) and node.conversion == -1 and node.format_spec is None
+                    self.assertTrue(plain or key or brace, about)
+                if isinstance(node, ast.Try):
+                    self.check_try(node, about)
                 if isinstance(node, ast.Constant) and node not in docstrings_of(tree):
                     self.check_literal(node.value, about)
                 if isinstance(node, ast.Compare):
                     for sign, other in zip(node.ops, node.comparators):
                         if isinstance(sign, (ast.Is, ast.IsNot)):
                             self.assertTrue(isinstance(other, ast.Constant) and other.value is None, about)
+
+    def check_try(self, node, about):
+        """Own errors alone are caught, by one handler, that does not keep them."""
+        self.assertEqual((len(node.handlers), node.orelse, node.finalbody), (1, [], []), about)
+        self.assertEqual((node.handlers[0].type.id, node.handlers[0].name), ("TieError", None), about)
 
     def check_literal(self, value, about):
         self.assertIn(value.__class__.__name__, ("int", "str", "bool", "NoneType"), about)
@@ -267,8 +315,10 @@ class CodeTest(unittest.TestCase):
             for node, holder in linked(tree_of(path)):
                 about = (path, getattr(node, "lineno", None))
                 if isinstance(node, ast.Name) and isinstance(node.ctx, ast.Load) and node.id in dir(builtins):
+                    if isinstance(holder, ast.FunctionDef) and is_property(holder):
+                        continue
                     self.assertIn(node.id, BUILTINS, about)
-                    kind = isinstance(holder, ast.ClassDef) or node.id in ("int", "tuple", "bool", "ValueError")
+                    kind = isinstance(holder, ast.ClassDef) or node.id in ("int", "str", "tuple", "bool", "ValueError")
                     self.assertTrue(kind or isinstance(holder, ast.Call) and holder.func is node, about)
                 if isinstance(node, ast.Call) and isinstance(node.func, ast.Attribute):
                     base = isinstance(node.func.value, ast.Name) and node.func.value.id == "TieError"

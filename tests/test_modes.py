@@ -22,39 +22,7 @@ ON_LOTS = (carries_over, lost_tie, carries_driven, kept_places)
 ON_MOTIONS = (goes_on, gone_on)
 BOTH = ((0, 0), (0, 1), (1, 0), (1, 1))
 FLIGHT = (((2, 1), ONE, NIL, NIL), ((-1, 1), NIL, NIL, NIL), (NIL, NIL, NIL, NIL))
-
-
-def times_row(source, model):
-    """The model with one row times a polynomial: its motions are motions of that."""
-    place = source.randrange(len(model))
-    factor = makers.some_polynomial(source, 1)
-    factors = tuple(factor if k == place else () for k in range(len(model)))
-    return makers.with_row(model, place, oracles.row_product(factors, model))
-
-
-def changed(source, model):
-    """A solvable model that differs in one number."""
-    while True:
-        place = source.randrange(len(model))
-        other = makers.with_row(model, place, makers.with_one_changed(source, model[place]))
-        if oracles.determinant(other):
-            return other
-
-
-def some_pairs():
-    """Pairs of models of one size: alike ones, such as hold the motions of the other one, and any."""
-    source, found = Random(223), []
-    for model in MODELS:
-        found.append((model, makers.stirred(source, model, 2)))
-        wider = times_row(source, model)
-        found += [(model, wider), (wider, model), (model, changed(source, model))]
-    for many in (1, 2, 3):
-        models = [model for model in MODELS if len(model) == many]
-        found += [(source.choice(models), source.choice(models)) for _ in range(15)]
-    return found + [(BAR, LOOSE), (LOOSE, BAR), (TURN, SLACK), (SLACK, TURN), (TWINS, SLACK), (ROD, BAR)]
-
-
-PAIRS = some_pairs()
+PAIRS = makers.some_pairs(223, MODELS)
 
 
 class Read:
@@ -153,7 +121,7 @@ class CarriesTest(Case):
     def test_one_way_only(self):
         source, seen = Random(227), 0
         for model in MODELS:
-            wider = times_row(source, model)
+            wider = makers.times_row(source, model)
             greatest = max(len(item) for row in wider for item in row)
             lot = tuple((unknown, growth) for unknown in range(len(model)) for growth in range(greatest))
             self.assertIs(carries_over(model, wider, lot), True)

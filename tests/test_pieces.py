@@ -10,7 +10,7 @@ from hiddenties.models import free_starts, is_model, is_solvable
 from hiddenties.pieces import apart, are_joints, is_balanced, is_floating, is_piece, joined
 from tests import makers, oracles, wrongs
 from tests.helps import Case, raised_by
-from tests.makers import LESS, NIL, ONE, S, SS, TWO, UNIT
+from tests.makers import LESS, NIL, S, SS, TWO, UNIT
 
 MINUS = (LESS,)
 COIL = (2, ((UNIT, (), MINUS, S), ((), UNIT, (), UNIT)))
@@ -175,6 +175,8 @@ def wrong_joints():
         if len(ports) > 1:
             some += [(ports[::-1],), ((ports[1], ports[0]),) + tuple((told,) for told in ports[2:])]
             some += [(ports[:1] + ports,), (ports[1:],)]
+            # One port stands in two nodes and another one nowhere, so the numbers are right.
+            some += [tuple((told,) for told in ports[:-1]) + ((ports[0],),), (ports[:-1], ports[:1])]
         found += [(pieces, wrong) for wrong in some]
     return found
 

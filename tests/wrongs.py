@@ -36,6 +36,11 @@ class Touchy:
         raise RuntimeError("sorted")
 
 
+def untouchy():
+    """These values but for what cannot be compared."""
+    return [value for value in anything() if type(value) is not Touchy]
+
+
 def nested(depth, inner, kind=tuple):
     """A value nested so deep."""
     value = inner
@@ -289,3 +294,53 @@ def no_pieces():
     for value in no_polynomials():
         found += [(1, ((value, ()),)), (1, (rows, ((), value))), (1, (rows + ((),), ((), (), value)))]
     return found
+
+
+def turned_about(value):
+    """What one change makes of a number or of a tuple: a part left out, added, exchanged, made a list, and so on."""
+    if type(value) is tuple:
+        found = [list(value), value + value[-1:], value + ((),), value + (0,), (value,), value[::-1], None]
+        found += [value[:k] + value[k + 1:] for k in range(len(value))]
+        found += [value[:k] + (value[k + 1], value[k]) + value[k + 2:] for k in range(len(value) - 1)]
+        return [other for other in found if repr(other) != repr(value)]
+    if type(value) is int:
+        return [value + 1, value - 1, -value - 2, None, str(value), (value,), bool(value), 0 if value else 1]
+    return [0, 1, False, "", ()] if value is None else ["", "Sure", b"tie", None, 0, value + " ", (value,), [value]]
+
+
+def spoiled(value):
+    """All values that differ from one at one place, at whatever depth."""
+    found = turned_about(value)
+    if type(value) is tuple:
+        for k, part in enumerate(value):
+            found += [value[:k] + (other,) + value[k + 1:] for other in spoiled(part)]
+    return found
+
+
+def no_names():
+    """Values that cannot be the name of a model."""
+    return anything() + [
+        "abcdefghijklm", "a" * 13, "A", "aB", "a b", " a", "a ", "a1", "0", "a_", "_", "a-b", "a.", "\u00e4", "a\n",
+        "\n", b"a", ("a",), ["a"], {"a": 1}, {"a"}, 97, "a" * 4000,
+    ]
+
+
+def no_wishes():
+    """Values that are no wish."""
+    found = anything() + [(), ("solvable",), ("a",), "solvable", ("solvable", "a", ()), ("sound", "a", "a")]
+    found += [["solvable", "a"], ("free", "a"), ("alike", "a"), ("alike", "a", "b", "c"), ("states", "a")]
+    found.append(("states", "a", (), ()))
+    words = ("", "Solvable", "solvable ", "sound\n", "loose", "weak", "weight", "Free", 0, None, True, (), b"sound")
+    found += [(word, "a") for word in words + ("free", "states", "alike")]
+    found += [(word, "a", 1) for word in words + ("solvable", "sound", "states", "alike", ("free",))]
+    found += [(word, "a", "a") for word in words + ("solvable", "sound", "states", "free", "unlike", ("alike",))]
+    found += [(Touchy(), "a"), (Touchy(), "a", 1), (Touchy(), "a", ()), (Touchy(), "a", "a"), ("alike", "a", Touchy())]
+    for name in no_names():
+        found += [("solvable", name), ("sound", name), ("free", name, 1), ("states", name, ()), ("alike", name, "a")]
+        found += [("alike", "a", name), ("alike", name, name)]
+    found += [("free", "a", number) for number in no_numbers() + ["1", (1,), [1]]]
+    found += [("states", "a", lot) for lot in no_tuples() + [[(0, 0)], {(0, 0): 1}]]
+    for place in anything() + [(), (0,), (0, 0, 0), [0, 0], "00", (-1, 0), (0, -1), (True, 0), (0, False), ("0", 0)]:
+        found += [("states", "a", (place,)), ("states", "a", ((0, 0), place))]
+    lots = (((0, 0), (0, 0)), ((0, 1), (0, 0)), ((1, 0), (0, 5)), ((0, 0), (0, 2), (0, 1)), (0, 0), (0, 1))
+    return found + [("states", "a", lot) for lot in lots]
